@@ -1,0 +1,1 @@
+"""Enoughpaid: prices that stay bounded."""
