@@ -40,9 +40,14 @@ def is_row(value):
     return value == "" or has_only_letters(value)
 
 
+def is_list(value):
+    """Tell whether a value is a list, or a tuple, which may be passed for one."""
+    return isinstance(value, (list, tuple))
+
+
 def is_arrow(value):
     """Tell whether a value is an arrow, as a tuple or as a list."""
-    if not isinstance(value, (tuple, list)) or len(value) != ARROW_PARTS:
+    if not is_list(value) or len(value) != ARROW_PARTS:
         return False
     state, letter, after, cost = value
     return is_name(state) and is_letter(letter) and is_name(after) and is_price(cost)

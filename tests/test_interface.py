@@ -13,6 +13,20 @@ FUNCTIONS = {
         "best": ["machine", "row"],
         "between": ["machine", "row", "state", "other"],
     },
+    "enoughpaid.tallies": {"tally_of": ["machine", "row"]},
+    "enoughpaid.building": {
+        "either": ["one", "other"],
+        "behind": ["one", "other"],
+        "within": ["one", "other"],
+        "summed": ["one", "other"],
+        "turned": ["machine"],
+    },
+    "enoughpaid.known": {
+        "counter": ["letters", "paid"],
+        "capped": ["letters", "paid", "number"],
+        "gap": ["first", "second"],
+        "nested": ["letters"],
+    },
 }
 CLASSES = {
     "enoughpaid.errors": {
@@ -33,8 +47,22 @@ CLASSES = {
     "enoughpaid.machines": {
         "Machine": {"__init__": ["self", "arrows", "starts", "ends"], "text": ["self"], "parse": ["cls", "text"]},
     },
+    "enoughpaid.tallies": {
+        "Tally": {
+            "__init__": ["self", "states", "marks"],
+            "__eq__": ["self", "other"],
+            "at": ["self", "state", "other"],
+            "then": ["self", "other"],
+            "is_settled": ["self"],
+            "repeated": ["self"],
+            "between": ["self", "starts", "ends"],
+        },
+    },
 }
-PROPERTIES = {("enoughpaid.machines", "Machine"): ["arrows", "starts", "ends", "states", "letters"]}
+PROPERTIES = {
+    ("enoughpaid.machines", "Machine"): ["arrows", "starts", "ends", "states", "letters"],
+    ("enoughpaid.tallies", "Tally"): ["states", "marks"],
+}
 
 
 class InterfaceTest(unittest.TestCase):

@@ -7,13 +7,10 @@ from unittest import mock
 
 from enoughpaid.errors import BadArrow, BadState, TooMany
 from enoughpaid.machines import Machine
+from helpers import NOT_NAMES
 
 NAMES = ["".join(signs) for signs in itertools.product("abcdefgh", repeat=2)]
 GO = ("go", "a", "go", 1)
-NOT_NAMES = [
-    "", "A", "a1", "a b", " a", "a ", "a\n", "abcdefghi", "a" * 5001, "\u00e4", "\u03b1", "\u00aa", "\uff41",
-    "a_", "a-b", 0, 1, None, True, 1.5, b"a", ("a",), ["a"], {"a": 1}, {"a"}, object(), mock.ANY,
-]
 NOT_LETTERS = ["", "ab", "A", "1", " ", "\n", "\u00e4", "\u00df", "\u03b1", "\uff41", 0, None, True, b"a", ["a"], mock.ANY]
 NOT_PRICES = [-1, 100, 1000, 10 ** 40, True, False, None, "0", "1", 0.0, 1.0, 1.5, b"1", [1], (1,), mock.ANY]
 NOT_ARROWS = [

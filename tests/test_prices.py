@@ -1,7 +1,6 @@
 """Prices and best runs, held against all runs of small machines."""
 
 import copy
-import itertools
 import random
 import unittest
 from unittest import mock
@@ -9,6 +8,7 @@ from unittest import mock
 from enoughpaid.errors import BadRow, PaidError, UnknownState
 from enoughpaid.machines import Machine
 from enoughpaid.prices import best, between, price
+from helpers import NOT_ROWS, all_runs, random_machine, rows_up_to
 
 GAP = Machine(
     [
@@ -19,43 +19,10 @@ GAP = Machine(
     ["before"],
     ["after"],
 )
-NOT_ROWS = [
-    "A", "aB", "a b", " ", "a\n", "\n", "a1", "1", "-", "\u00e4", "a\u00df", "\uff41", "a" * 5001, None, 0, 1, True,
-    False, 1.5, b"a", b"", ("a",), (), ["a", "b"], [], {"a": 1}, {}, {"a"}, object(), mock.ANY,
-]
 NOT_STATES = [
     "", "a", "x", "Before", "before ", "befor", "beforee", None, 0, True, 1.5, b"before", ("before",), ["before"],
     {"before": 1}, {"before"}, object(), mock.ANY,
 ]
-
-
-def all_runs(machine, row, starts, ends):
-    """Return a pair of the price and the states for each run on the row, as the document defines it."""
-    costs = {(state, letter, after): cost for state, letter, after, cost in machine.arrows}
-    found = []
-    for states in itertools.product(machine.states, repeat=len(row) + 1):
-        steps = [(states[place], row[place], states[place + 1]) for place in range(len(row))]
-        if states[0] in starts and states[-1] in ends and all(step in costs for step in steps):
-            found.append((sum(costs[step] for step in steps), states))
-    return sorted(found)
-
-
-def random_machine(chance, names, letters):
-    """Return a machine in which each arrow, start and end stands by chance."""
-    prices = chance.choice([[0, 1], [0, 1, 2, 5], [1], [0], [0, 99]])
-    density = chance.choice([2, 3, 5])
-    arrows = [
-        (state, letter, after, chance.choice(prices))
-        for state in names for letter in letters for after in names if chance.randrange(6) < density
-    ]
-    chance.shuffle(arrows)
-    starts = [name for name in names if chance.randrange(2)]
-    return Machine(arrows, starts, [name for name in names if chance.randrange(2)])
-
-
-def rows_up_to(letters, length):
-    """Return all rows of the letters that have at most this length."""
-    return ["".join(signs) for many in range(length + 1) for signs in itertools.product(letters, repeat=many)]
 
 
 class AgainstAllRunsTest(unittest.TestCase):
