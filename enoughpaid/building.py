@@ -66,6 +66,12 @@ def joined(one, other):
     return useful(arrows, starts, other.ends)
 
 
+def trimmed(machine):
+    """Return the machine with only the states that are on some run."""
+    arrows, starts, ends = useful(machine.arrows, machine.starts, machine.ends)
+    return Machine(arrows, starts, ends)
+
+
 def useful(arrows, starts, ends):
     """Return the arrows, starts and ends of the states that are on some run, so that there are few of them."""
     ahead = reached(starts, arrows)

@@ -14,6 +14,28 @@ FUNCTIONS = {
         "between": ["machine", "row", "state", "other"],
     },
     "enoughpaid.tallies": {"tally_of": ["machine", "row"]},
+    "enoughpaid.expressions": {
+        "stars": ["text"],
+        "letters": ["text"],
+        "row_of": ["text", "n"],
+        "tally_along": ["machine", "text"],
+        "along": ["machine", "text"],
+        "ceiling": ["machine", "text"],
+    },
+    "enoughpaid.closures": {
+        "closure": ["machine"],
+        "bounded": ["machine"],
+        "growing": ["machine"],
+        "paper": ["machine"],
+        "is_paper": ["machine", "tallies"],
+    },
+    "enoughpaid.pairs": {
+        "under": ["one", "other"],
+        "apart": ["one", "other"],
+        "alike": ["one", "other"],
+        "pair_paper": ["one", "other"],
+        "is_pair_paper": ["one", "other", "pairs"],
+    },
     "enoughpaid.building": {
         "either": ["one", "other"],
         "behind": ["one", "other"],

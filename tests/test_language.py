@@ -123,6 +123,21 @@ class LanguageTest(unittest.TestCase):
                     self.assertIn(node.id, BUILTINS, (name, node.lineno))
                     self.assertIsInstance(node.ctx, ast.Load, (name, node.lineno))
 
+    def test_lambdas(self):
+        for name, text, tree in files():
+            lines = []
+            for node in ast.walk(tree):
+                if isinstance(node, ast.Lambda):
+                    self.assertEqual([node.args.defaults, node.args.vararg, node.args.kwarg], [[], None, None], name)
+                    lines.append((node.lineno, [part.arg for part in node.args.args]))
+            self.assertTrue(all(lines.count(line) == 1 for line in lines), name)
+
+    def test_lists_are_sorted_as_new_ones(self):
+        # Since a class has `__eq__`.
+        for name, text, tree in files():
+            for node in ast.walk(tree):
+                self.assertNotEqual(getattr(node, "attr", None), "sort", name)
+
     def test_methods_and_attributes(self):
         defined, assigned = set(), set()
         for name, text, tree in files():
