@@ -2,10 +2,10 @@
 
 ROOT = 0
 
-# What a starred part adds to the weight of the expression in its brackets. By stars, the order of weights is that of
-# the document; by length, expressions with stars do not have to wait for all that have less of them.
-BY_STARS = (1, 0)
-BY_LENGTH = (0, 3)
+# What a letter weighs, and what a starred part weighs more than the expression in its brackets. By stars, the order of
+# weights is that of the document. By letters, expressions with stars do not have to wait for all that have fewer.
+BY_STARS = ((0, 1), (1, 0))
+BY_LETTERS = ((1, 1), (0, 3))
 
 
 class Search:
@@ -17,9 +17,10 @@ class Search:
     least expressions are numbered as they are found; the number ROOT is that of no parts at all.
     """
 
-    def __init__(self, packing, letters, star):
+    def __init__(self, packing, letters, weights):
+        letter_weight, star_weight = weights
         self.held_packing = packing
-        self.held_star = star
+        self.held_star = star_weight
         self.found = {}
         self.tallies = [()]
         self.texts = [""]
@@ -28,13 +29,13 @@ class Search:
         self.tails = [ROOT]
         self.longer_behind = [{}]
         self.longer_ahead = [[]]
-        # For expressions of one part: the rows that have been put ahead of its tally, with what this gave.
-        self.tables = [{}]
+        # For the expressions of one part: the rows that have been put ahead of its tally, with what this gave.
+        self.tables = {}
         # The least expression seen so far of each tally that is not found yet, and these tallies by weight.
         self.seen = {}
         self.due = {}
         for letter, tally in letters:
-            self.offer(tally, (0, 1), letter, (ROOT, None))
+            self.offer(tally, letter_weight, letter, (ROOT, None))
 
     def first(self, is_wanted):
         """Find tallies until one is wanted, and return the number of its expression, None if there is none."""
@@ -82,9 +83,9 @@ class Search:
         self.weights.append(weight)
         self.longer_behind.append({})
         self.longer_ahead.append([])
-        self.tables.append({})
         if last is None:
             last = number
+            self.tables[number] = {}
             self.tails.append(ROOT)
         else:
             self.tails.append(self.longer_behind[self.tails[front]][last])

@@ -1,7 +1,7 @@
 """Machines side by side, so that the tallies that an expression has for them are searched together."""
 
 from enoughpaid.packed import Packing
-from enoughpaid.search import BY_LENGTH, BY_STARS, Search
+from enoughpaid.search import BY_LETTERS, BY_STARS, Search
 from enoughpaid.tallies import tally_of, tally_with
 
 
@@ -43,13 +43,13 @@ class Sides:
         end = begin + len(machine.states)
         return tally_with(machine.states, tuple([self.packing.ranks_of(row)[begin:end] for row in packed[begin:end]]))
 
-    def search(self, letters, star):
+    def search(self, letters, weights):
         """Return a search for the tallies of the expressions of some letters."""
         rows = [
             (letter, self.packed([tally_of(machine, letter) for machine, begin in self.held_sides]))
             for letter in letters
         ]
-        return Search(self.packing, rows, star)
+        return Search(self.packing, rows, weights)
 
 
 def all_letters(machines):
@@ -69,7 +69,7 @@ def has_any(machines, letters, is_wanted):
     """Tell whether the ranks of some expression of the letters along the machines are wanted."""
     sides = Sides(machines)
     # The search is over sooner if it does not leave the expressions with many stars for the end.
-    return sides.search(letters, BY_LENGTH).first(lambda tally: is_wanted(sides.ranks_along(tally))) is not None
+    return sides.search(letters, BY_LETTERS).first(lambda tally: is_wanted(sides.ranks_along(tally))) is not None
 
 
 def all_with_texts(machines):
@@ -83,7 +83,7 @@ def all_with_texts(machines):
 def all_unless_any(machines, is_wanted):
     """Return the tallies of all expressions, one for each machine, None if the ranks of any are wanted."""
     sides = Sides(machines)
-    search = sides.search(all_letters(machines), BY_LENGTH)
+    search = sides.search(all_letters(machines), BY_LETTERS)
     if search.first(lambda tally: is_wanted(sides.ranks_along(tally))) is not None:
         return None
     return [sides.unpacked(tally) for tally in search.found]
@@ -101,7 +101,7 @@ def are_all_unless_any(machines, told, is_wanted):
     held = {sides.packed(tallies): True for tallies in told}
     if any([is_wanted(sides.ranks_along(tally)) for tally in held]):
         return False
-    search = sides.search(all_letters(machines), BY_LENGTH)
+    search = sides.search(all_letters(machines), BY_LETTERS)
     if search.first(lambda tally: tally not in held) is not None:
         return False
     return others_lead_back(sides.packing, search, held)

@@ -36,6 +36,9 @@ FUNCTIONS = {
         "pair_paper": ["one", "other"],
         "is_pair_paper": ["one", "other", "pairs"],
     },
+    "enoughpaid.greatest": {"above": ["machine", "number"], "greatest": ["machine"]},
+    "enoughpaid.pieces": {"pieces": ["machine"], "enough": ["machine"]},
+    "enoughpaid.curing": {"freed": ["machine", "arrows"], "cures": ["machine"], "supports": ["machine"]},
     "enoughpaid.building": {
         "either": ["one", "other"],
         "behind": ["one", "other"],
@@ -80,10 +83,19 @@ CLASSES = {
             "between": ["self", "starts", "ends"],
         },
     },
+    "enoughpaid.meters": {
+        "Meter": {
+            "__init__": ["self", "machine"],
+            "best": ["self"],
+            "read": ["self", "row"],
+            "undo": ["self", "count"],
+        },
+    },
 }
 PROPERTIES = {
     ("enoughpaid.machines", "Machine"): ["arrows", "starts", "ends", "states", "letters"],
     ("enoughpaid.tallies", "Tally"): ["states", "marks"],
+    ("enoughpaid.meters", "Meter"): ["machine", "so_far", "price", "prices"],
 }
 
 
