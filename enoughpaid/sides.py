@@ -10,11 +10,11 @@ class Sides:
 
     def __init__(self, machines):
         self.held_sides = []
-        begin = 0
+        size = 0
         for machine in machines:
-            self.held_sides.append((machine, begin))
-            begin += len(machine.states)
-        self.packing = Packing(begin)
+            self.held_sides.append((machine, size))
+            size += len(machine.states)
+        self.packing = Packing(size)
         self.held_doors = [self.doors_of(machine, begin) for machine, begin in self.held_sides]
 
     def doors_of(self, machine, begin):
